@@ -16,6 +16,12 @@ func Read(s string) (local, domain string, ok bool) {
 	return strings.Clone(local), smallLetters(domain), true
 }
 
+// IsKept tells whether s is an address as it is kept.
+func IsKept(s string) bool {
+	local, domain, ok := Read(s)
+	return ok && local+"@"+domain == s
+}
+
 // IsDomain tells whether s is a domain.
 func IsDomain(s string) bool {
 	// The length is asked first so that a very long text is not cut up in vain.

@@ -4,12 +4,15 @@ package postbag
 import (
 	"postbag/address"
 	"postbag/api"
+	"postbag/bag"
 	"postbag/settings"
 	"postbag/sixbits"
 )
 
 // Post takes mail in, keeps it, and hands it on.
-type Post struct{}
+type Post struct {
+	bag *bag.Bag
+}
 
 // Address reads an address (P3).
 func Address(s string) (string, string, bool) { return address.Read(s) }
@@ -26,13 +29,28 @@ func Check(c api.Config) api.Errno {
 }
 
 // Open makes a post of what was kept (P5).
-func Open(c api.Config, kept string) (*Post, api.Errno) { return nil, api.OK }
+func Open(c api.Config, kept string) (*Post, api.Errno) {
+	if errno := Check(c); errno != api.OK {
+		return nil, errno
+	}
+	return &Post{bag: bag.Read(kept)}, api.OK
+}
 
 // Kept tells what is kept (P6).
-func (p *Post) Kept() (string, api.Errno) { return "", api.OK }
+func (p *Post) Kept() (string, api.Errno) {
+	if p == nil {
+		return "", api.ErrNil
+	}
+	return p.bag.Kept(), api.OK
+}
 
 // Queue tells the mail that is to be handed on (P6).
-func (p *Post) Queue() ([]api.Mail, api.Errno) { return nil, api.OK }
+func (p *Post) Queue() ([]api.Mail, api.Errno) {
+	if p == nil {
+		return nil, api.ErrNil
+	}
+	return p.bag.Queue(), api.OK
+}
 
 // Connect begins a connection (P7).
 func (p *Post) Connect(addr int) (int, string, api.Errno) { return 0, "", api.OK }
