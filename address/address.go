@@ -16,10 +16,19 @@ func Read(s string) (local, domain string, ok bool) {
 	return strings.Clone(local), smallLetters(domain), true
 }
 
+// AsKept gives an address as it is kept.
+func AsKept(s string) (string, bool) {
+	local, domain, ok := Read(s)
+	if !ok {
+		return "", false
+	}
+	return local + "@" + domain, true
+}
+
 // IsKept tells whether s is an address as it is kept.
 func IsKept(s string) bool {
-	local, domain, ok := Read(s)
-	return ok && local+"@"+domain == s
+	kept, ok := AsKept(s)
+	return ok && kept == s
 }
 
 // IsDomain tells whether s is a domain.

@@ -47,6 +47,25 @@ func (b *Bag) Queue() []api.Mail {
 	return queue
 }
 
+// Keep writes a new mail and gives its ID, if its record fits into room beside the others.
+func (b *Bag) Keep(from string, to []string, body string, room int) (int, bool) {
+	id := b.lastID + 1
+	content := record.WriteMail(api.Mail{ID: id, Time: b.time, From: from, To: to, Body: body})
+	if len(b.records)+record.Size(content) > room {
+		return 0, false
+	}
+	return id, b.write(content)
+}
+
+// write does what a record says in the way of one that is read, so that a post which is opened with it goes on like this one.
+func (b *Bag) write(content string) bool {
+	if !b.take(content) {
+		return false
+	}
+	b.records = append(b.records, record.Whole(content)...)
+	return true
+}
+
 // take does what a record says, if it may stand behind those that were taken; else it changes nothing.
 func (b *Bag) take(content string) bool {
 	if m, ok := record.ReadMail(content); ok {

@@ -5,13 +5,17 @@ import (
 	"postbag/address"
 	"postbag/api"
 	"postbag/bag"
+	"postbag/session"
 	"postbag/settings"
 	"postbag/sixbits"
 )
 
 // Post takes mail in, keeps it, and hands it on.
 type Post struct {
-	bag *bag.Bag
+	settings api.Config
+	bag      *bag.Bag
+	// sessions are all connections since Open, by their numbers; one that is closed is nil.
+	sessions []*session.Session
 }
 
 // Address reads an address (P3).
@@ -33,7 +37,7 @@ func Open(c api.Config, kept string) (*Post, api.Errno) {
 	if errno := Check(c); errno != api.OK {
 		return nil, errno
 	}
-	return &Post{bag: bag.Read(kept)}, api.OK
+	return &Post{settings: settings.Copy(c), bag: bag.Read(kept)}, api.OK
 }
 
 // Kept tells what is kept (P6).
@@ -53,13 +57,52 @@ func (p *Post) Queue() ([]api.Mail, api.Errno) {
 }
 
 // Connect begins a connection (P7).
-func (p *Post) Connect(addr int) (int, string, api.Errno) { return 0, "", api.OK }
+func (p *Post) Connect(addr int) (int, string, api.Errno) {
+	if p == nil {
+		return 0, "", api.ErrNil
+	}
+	if addr < 0 || addr > api.MaxAddr || len(p.sessions) == api.MaxConns {
+		return 0, "", api.ErrArg
+	}
+	conn := len(p.sessions)
+	s, greeting := session.Begin(&p.settings, p.bag, addr)
+	p.sessions = append(p.sessions, s)
+	return conn, greeting, api.OK
+}
 
 // Receive takes what comes on a connection (P7).
-func (p *Post) Receive(conn int, b string) (string, api.Errno) { return "", api.OK }
+func (p *Post) Receive(conn int, b string) (string, api.Errno) {
+	if p == nil {
+		return "", api.ErrNil
+	}
+	if !p.isOpen(conn) {
+		return "", api.ErrClosed
+	}
+	defer p.forgetIfOver(conn)
+	return p.sessions[conn].Hear(b), api.OK
+}
 
 // Close ends a connection (P7).
-func (p *Post) Close(conn int) api.Errno { return api.OK }
+func (p *Post) Close(conn int) api.Errno {
+	if p == nil {
+		return api.ErrNil
+	}
+	if !p.isOpen(conn) {
+		return api.ErrClosed
+	}
+	p.sessions[conn] = nil
+	return api.OK
+}
+
+func (p *Post) isOpen(conn int) bool {
+	return 0 <= conn && conn < len(p.sessions) && p.sessions[conn] != nil
+}
+
+func (p *Post) forgetIfOver(conn int) {
+	if p.sessions[conn].IsOver() {
+		p.sessions[conn] = nil
+	}
+}
 
 // Tick tells the time (P11).
 func (p *Post) Tick(now int) api.Errno { return api.OK }

@@ -1,4 +1,4 @@
-// Package settings: which settings a post may have.
+// Package settings: which settings a post may have, and whom they let send what.
 package settings
 
 import (
