@@ -30,6 +30,7 @@ func Read(kept string) *Bag {
 		size = len(kept) - len(rest)
 	}
 	b.records = []byte(kept[:size])
+	b.makeAllDue()
 	return b
 }
 

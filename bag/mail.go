@@ -11,27 +11,30 @@ import (
 type mail struct {
 	time int
 	from string
-	to   []recipient
+	to   []Recipient
 	body string
+	// due is since when, or from when on, it may be handed on.
+	due      int
+	failures int
 }
 
-// recipient is one who is still there; the place is that in the mail's record, whoever has left it.
-type recipient struct {
-	place int
-	name  string
+// Recipient is one who is still there; the place is that in the mail's record, whoever has left it.
+type Recipient struct {
+	Place int
+	Name  string
 }
 
 func newMail(m api.Mail) *mail {
-	to := make([]recipient, len(m.To))
+	to := make([]Recipient, len(m.To))
 	for i, name := range m.To {
-		to[i] = recipient{place: i, name: name}
+		to[i] = Recipient{Place: i, Name: name}
 	}
-	return &mail{time: m.Time, from: m.From, to: to, body: m.Body}
+	return &mail{time: m.Time, from: m.From, to: to, body: m.Body, due: m.Time}
 }
 
 func (m *mail) hasAll(places []int) bool {
 	for _, place := range places {
-		if !slices.ContainsFunc(m.to, func(r recipient) bool { return r.place == place }) {
+		if !slices.ContainsFunc(m.to, func(r Recipient) bool { return r.Place == place }) {
 			return false
 		}
 	}
@@ -41,10 +44,10 @@ func (m *mail) hasAll(places []int) bool {
 // leave takes out those at the places, and gives their names.
 func (m *mail) leave(places []int) []string {
 	var names []string
-	var staying []recipient
+	var staying []Recipient
 	for _, r := range m.to {
-		if slices.Contains(places, r.place) {
-			names = append(names, r.name)
+		if slices.Contains(places, r.Place) {
+			names = append(names, r.Name)
 		} else {
 			staying = append(staying, r)
 		}
@@ -53,11 +56,20 @@ func (m *mail) leave(places []int) []string {
 	return names
 }
 
+// places gives those of all who are still there.
+func (m *mail) places() []int {
+	places := make([]int, len(m.to))
+	for i, r := range m.to {
+		places[i] = r.Place
+	}
+	return places
+}
+
 // told copies the texts too, so that nothing of the answer is the mail's own.
 func (m *mail) told(id int) api.Mail {
 	to := make([]string, len(m.to))
 	for i, r := range m.to {
-		to[i] = strings.Clone(r.name)
+		to[i] = strings.Clone(r.Name)
 	}
 	return api.Mail{ID: id, Time: m.time, From: strings.Clone(m.from), To: to, Body: strings.Clone(m.body)}
 }

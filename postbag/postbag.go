@@ -5,6 +5,7 @@ import (
 	"postbag/address"
 	"postbag/api"
 	"postbag/bag"
+	"postbag/delivery"
 	"postbag/session"
 	"postbag/settings"
 	"postbag/sixbits"
@@ -16,7 +17,15 @@ type Post struct {
 	bag      *bag.Bag
 	// sessions are all connections since Open, by their numbers; one that is closed is nil.
 	sessions []*session.Session
+	// talk is that with the other host; it is nil while no mail is being handed on.
+	talk *delivery.Talk
 }
+
+// What the other host may answer.
+const (
+	leastCode = 200
+	mostCode  = 599
+)
 
 // Address reads an address (P3).
 func Address(s string) (string, string, bool) { return address.Read(s) }
@@ -105,13 +114,66 @@ func (p *Post) forgetIfOver(conn int) {
 }
 
 // Tick tells the time (P11).
-func (p *Post) Tick(now int) api.Errno { return api.OK }
+func (p *Post) Tick(now int) api.Errno {
+	if p == nil {
+		return api.ErrNil
+	}
+	if now < p.bag.Time() || now > api.MaxTime {
+		return api.ErrArg
+	}
+	if p.talk != nil {
+		return api.ErrBusy
+	}
+	p.bag.Tick(now, p.settings.Life)
+	return api.OK
+}
 
 // Dial begins to hand a mail on (P12).
-func (p *Post) Dial() (int, api.Errno) { return 0, api.OK }
+func (p *Post) Dial() (int, api.Errno) {
+	if p == nil {
+		return 0, api.ErrNil
+	}
+	if p.talk != nil {
+		return 0, api.ErrBusy
+	}
+	mail, ok := p.bag.LongestDue()
+	if !ok {
+		return 0, api.ErrIdle
+	}
+	p.talk = delivery.Begin(&p.settings, p.bag, mail)
+	return mail.ID, api.OK
+}
 
 // Answer takes an answer of the other host, and tells what to say next (P12).
-func (p *Post) Answer(code int) (string, api.Errno) { return "", api.OK }
+func (p *Post) Answer(code int) (string, api.Errno) {
+	if p == nil {
+		return "", api.ErrNil
+	}
+	if p.talk == nil {
+		return "", api.ErrIdle
+	}
+	if code < leastCode || code > mostCode {
+		return "", api.ErrArg
+	}
+	defer p.forgetTalkIfOver()
+	return p.talk.Hear(code), api.OK
+}
 
 // Hang ends what is being handed on (P12).
-func (p *Post) Hang() api.Errno { return api.OK }
+func (p *Post) Hang() api.Errno {
+	if p == nil {
+		return api.ErrNil
+	}
+	if p.talk == nil {
+		return api.ErrIdle
+	}
+	defer p.forgetTalkIfOver()
+	p.talk.End()
+	return api.OK
+}
+
+func (p *Post) forgetTalkIfOver() {
+	if p.talk.IsOver() {
+		p.talk = nil
+	}
+}

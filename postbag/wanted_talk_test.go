@@ -12,9 +12,10 @@ import (
 
 // wantedPost talks a second way: it holds all that ever came, cuts it anew each time, and asks forms for the commands.
 type wantedPost struct {
-	config api.Config
-	kept   string
-	conns  []*wantedConn
+	config  api.Config
+	kept    string
+	conns   []*wantedConn
+	handing wantedHanding
 }
 
 type wantedConn struct {
@@ -39,7 +40,8 @@ var (
 )
 
 func wantedOpen(c api.Config, kept string) *wantedPost {
-	return &wantedPost{config: c, kept: kept[:wantRead(kept).size]}
+	read := wantRead(kept)
+	return &wantedPost{config: c, kept: kept[:read.size], handing: wantedHanding{time: read.time, openTime: read.time, openMails: len(read.mails)}}
 }
 
 func (p *wantedPost) connect(addr int) (int, string, api.Errno) {
@@ -241,7 +243,7 @@ func (p *wantedPost) hearBody(c *wantedConn, line string) string {
 		return "552 size\r\n"
 	}
 	before := wantRead(p.kept)
-	written := record(mailRecord(len(before.mails)+1, before.time, c.from, text, c.to...))
+	written := record(mailRecord(len(before.mails)+1, p.handing.time, c.from, text, c.to...))
 	if len(p.kept)+len(written) > p.config.Room {
 		return "452 room\r\n"
 	}

@@ -27,6 +27,26 @@ func WriteMail(m api.Mail) string {
 	return string(appendText(b, m.Body, bodyLenBytes))
 }
 
+// WriteGone gives the content that ReadGone reads.
+func WriteGone(l Leaving) string {
+	return string(appendLeaving([]byte(goneKind), l))
+}
+
+// WriteFailed gives the content that ReadFailed reads.
+func WriteFailed(time int, l Leaving) string {
+	b := appendNumber([]byte(failedKind), time, timeBytes)
+	return string(appendLeaving(b, l))
+}
+
+func appendLeaving(b []byte, l Leaving) []byte {
+	b = appendNumber(b, l.ID, idBytes)
+	b = appendNumber(b, len(l.Places), countBytes)
+	for _, place := range l.Places {
+		b = appendNumber(b, place, placeBytes)
+	}
+	return b
+}
+
 // appendNumber writes a number with its highest byte first.
 func appendNumber(b []byte, n, size int) []byte {
 	for shift := 8 * (size - 1); shift >= 0; shift -= 8 {
